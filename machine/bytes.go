@@ -50,7 +50,8 @@ func Decode(b []byte, at int) (api.Code, int, api.Errno) {
 		return api.Code{}, 0, api.ErrShort
 	}
 	c := api.Code{Op: int(b[at] % wide), Wide: b[at] >= wide}
-	if !isOp(c.Op) {
+	// Bytes that have no Op do not say where an instruction would end, so that they are not short.
+	if !isOp(c.Op, c.Wide) {
 		return api.Code{}, 0, api.ErrOp
 	}
 	r := reader{rest: b[at+1:]}

@@ -46,7 +46,13 @@ var rows = [...]row{
 // wideSize is how many bytes the Value of a Wide jump takes.
 const wideSize = 4
 
-func isOp(op int) bool { return within(op, api.CodeConst, api.CodeFunc) }
+// isOp reports whether there is an Op, and, if it is to be Wide, whether it can be.
+func isOp(op int, wide bool) bool {
+	if wide {
+		return isJump(op)
+	}
+	return within(op, api.CodeConst, api.CodeFunc)
+}
 
 func isJump(op int) bool {
 	return op == api.CodeJump || op == api.CodeIf || op == api.CodeUnless
@@ -67,12 +73,12 @@ func number(c *api.Code, field rune) *int {
 	return &c.Value
 }
 
-// width returns how many bytes the number of a field takes; of Args, its length.
+// width returns how many bytes the number of a field takes; of Args, its length. An instruction that is Wide is a jump.
 func width(c api.Code, field rune) int {
 	switch {
 	case field != fieldValue:
 		return 1
-	case c.Wide && isJump(c.Op):
+	case c.Wide:
 		return wideSize
 	}
 	return rows[c.Op].size
