@@ -101,9 +101,9 @@ func (m maker) registers(n int) (l []int) {
 	return l
 }
 
-// instr is an instruction of a kind. Slots that it does not use are anything; its Op and its Value are 0 if it does not use them.
+// instr is an instruction of a kind. Fields that it does not use are anything.
 func (m maker) instr(kind int) api.Instr {
-	i := api.Instr{Kind: kind, Dst: m.any(), A: m.any(), B: m.any(), Args: m.anys()}
+	i := api.Instr{Kind: kind, Op: m.any(), Dst: m.any(), A: m.any(), B: m.any(), Value: m.any(), Args: m.anys()}
 	for _, slot := range shapes[kind].slots {
 		switch slot {
 		case 'd':
@@ -117,8 +117,6 @@ func (m maker) instr(kind int) api.Instr {
 		}
 	}
 	switch kind {
-	case api.InstrConst:
-		i.Value = m.any()
 	case api.InstrUnary:
 		i.Op = 1 + m.Intn(2)
 	case api.InstrBinary:

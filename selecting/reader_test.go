@@ -27,7 +27,13 @@ func (r *reading) add(to int, c api.Code) {
 // plain is the machine instruction of an instruction.
 func plain(i api.Instr) api.Code {
 	s := shapes[i.Kind]
-	c := api.Code{Op: s.op, Arith: i.Op, Value: i.Value}
+	c := api.Code{Op: s.op}
+	if s.arith {
+		c.Arith = i.Op
+	}
+	if s.value {
+		c.Value = i.Value
+	}
 	for _, slot := range s.slots {
 		switch slot {
 		case 'd':

@@ -135,13 +135,32 @@ func TestKnownInstructions(t *testing.T) {
 	} {
 		last := api.Code{Op: api.CodeReturn, A: 5}
 		isSelected(t, function(block(give(5), x.i)), []int{0}, []api.Code{x.c, last}, []int{0})
+		for _, other := range others(x.i) {
+			isSelected(t, function(block(give(5), other)), []int{0}, []api.Code{x.c, last}, []int{0})
+		}
 		if got := plain(x.i); !machine.Same(got, x.c) {
 			t.Errorf("instruction %d: the reader has %v", i, got)
 		}
 	}
 }
 
-// TestFieldsWithoutMeaning has anything in Op and Value where a kind does not use them: no byte and no slot is another one.
+// others are an instruction with other numbers in Op and Value, where its kind does not use them.
+func others(i api.Instr) (l []api.Instr) {
+	s := shapes[i.Kind]
+	for _, n := range []int{1, 2, 3, 7, -1, smallest, greatest} {
+		other := i
+		if !s.arith {
+			other.Op = n
+		}
+		if !s.value {
+			other.Value = n
+		}
+		l = append(l, other)
+	}
+	return l
+}
+
+// TestFieldsWithoutMeaning has anything in the fields that a kind does not use: the machine instructions are those of the same instructions with 0 there.
 func TestFieldsWithoutMeaning(t *testing.T) {
 	m := newMaker(1)
 	for range 300 {
@@ -151,28 +170,41 @@ func TestFieldsWithoutMeaning(t *testing.T) {
 		for _, b := range f.Blocks {
 			b.Instrs = slices.Clone(b.Instrs)
 			for j := range b.Instrs {
-				if s := shapes[b.Instrs[j].Kind]; !s.arith {
-					b.Instrs[j].Op = m.any()
-				}
-				if s := shapes[b.Instrs[j].Kind]; !s.value {
-					b.Instrs[j].Value = m.any()
-				}
+				b.Instrs[j] = bare(b.Instrs[j])
 			}
 			g.Blocks = append(g.Blocks, b)
 		}
-		isExpected(t, g)
-		codes, starts, _ := selecting.Select(f, order)
-		others, otherStarts, e := selecting.Select(g, order)
-		if e != api.OK || !slices.Equal(bytes(t, others), bytes(t, codes)) || !slices.Equal(otherStarts, starts) || selecting.Size(g, order) != selecting.Size(f, order) {
-			t.Fatalf("%v: %v, %v, error %d, not %v, %v", g, others, otherStarts, e, codes, starts)
+		codes, starts, e := selecting.Select(g, order)
+		if e != api.OK || selecting.Size(f, order) != selecting.Size(g, order) {
+			t.Fatalf("%v: error %d, or other sizes of %v", g, e, f)
 		}
-		for i, c := range others {
-			c.Arith, c.Value = codes[i].Arith, codes[i].Value
-			if !machine.Same(c, codes[i]) {
-				t.Fatalf("%v: %v, not %v", g, others[i], codes[i])
-			}
+		isSelected(t, f, order, codes, starts)
+	}
+}
+
+// bare is an instruction with 0 in the fields that its kind does not use.
+func bare(i api.Instr) api.Instr {
+	s := shapes[i.Kind]
+	b := api.Instr{Kind: i.Kind}
+	for _, slot := range s.slots {
+		switch slot {
+		case 'd':
+			b.Dst = i.Dst
+		case 'a':
+			b.A = i.A
+		case 'b':
+			b.B = i.B
+		case 'l':
+			b.Args = i.Args
 		}
 	}
+	if s.arith {
+		b.Op = i.Op
+	}
+	if s.value {
+		b.Value = i.Value
+	}
+	return b
 }
 
 // TestKnownEnds has each kind of ends, ahead of each block, and at the end of the order.

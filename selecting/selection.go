@@ -121,11 +121,17 @@ var ops = [...]int{
 	api.InstrFunc:      api.CodeFunc,
 }
 
-// translated returns the machine instruction of an instruction. Its slots are those that its Op has.
+// translated returns the machine instruction of an instruction. Fields that its Kind does not use are 0, whatever the instruction has there.
 func translated(i api.Instr) api.Code {
-	c := api.Code{Op: ops[i.Kind], Arith: i.Op, Value: i.Value}
+	c := api.Code{Op: ops[i.Kind]}
 	if register, ok := flow.Def(i); ok {
 		c.Dst = register
+	}
+	switch i.Kind {
+	case api.InstrUnary, api.InstrBinary:
+		c.Arith = i.Op
+	case api.InstrConst, api.InstrLoad, api.InstrStore, api.InstrElement, api.InstrSet, api.InstrCall, api.InstrCount, api.InstrFunc:
+		c.Value = i.Value
 	}
 	switch i.Kind {
 	case api.InstrMove, api.InstrUnary, api.InstrStore, api.InstrElement, api.InstrPrint:
